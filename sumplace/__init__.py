@@ -1,0 +1,1 @@
+"""Sumplace: the so-manieth sum of two sorted rows."""
