@@ -6,6 +6,23 @@ import unittest
 
 CLASSES = {
     "sumplace.errors": ["SumError", "NoPlace", "NoSide", "NoNumber", "NoText", "NoCommand"],
+    "sumplace.walks": ["Walk"],
+    "sumplace.looks": ["Glass"],
+}
+
+METHODS = {
+    ("sumplace.walks", "Walk"): {
+        "__init__": ["one", "other", "place"],
+        "onward": [],
+        "backward": [],
+        "left": [],
+    },
+    ("sumplace.looks", "Glass"): {
+        "__init__": ["row"],
+        "many": [],
+        "look": ["place"],
+        "looks": [],
+    },
 }
 
 FUNCTIONS = {
@@ -18,6 +35,19 @@ FUNCTIONS = {
     "sumplace.below": {
         "sums_below": ["one", "other", "number"],
         "sums_to": ["one", "other", "number"],
+    },
+    "sumplace.manieth": {
+        "sum_at": ["one", "other", "place"],
+        "middle": ["one", "other"],
+    },
+    "sumplace.looks": {
+        "sum_by_looks": ["one", "other", "place"],
+    },
+    "sumplace.differences": {
+        "differences_below": ["one", "other", "number"],
+        "difference_at": ["one", "other", "place"],
+        "within_below": ["row", "number"],
+        "within_at": ["row", "place"],
     },
 }
 
@@ -39,6 +69,14 @@ class TestInterface(unittest.TestCase):
                     self.assertTrue(inspect.isfunction(told))
                     self.assertEqual(told.__module__, file)
                     self.assertEqual(list(inspect.signature(told).parameters), arguments)
+
+    def test_methods_stand_in_their_classes_with_their_arguments(self):
+        for (file, name), methods in METHODS.items():
+            own = vars(getattr(importlib.import_module(file), name))
+            for method, arguments in methods.items():
+                with self.subTest(file=file, name=name, method=method):
+                    self.assertTrue(inspect.isfunction(own.get(method)))
+                    self.assertEqual(list(inspect.signature(own[method]).parameters)[1:], arguments)
 
 
 if __name__ == "__main__":

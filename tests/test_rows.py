@@ -5,25 +5,7 @@ import unittest
 from itertools import product
 
 from sumplace.rows import is_row, joined, many_below, many_to
-from tests.helpers import FAR, small_rows
-
-
-def nested(deep, wrap):
-    """Something in so many lists or tuples, one within the other; wrap(thing, at) makes one."""
-    thing = 0
-    for at in range(deep):
-        thing = wrap(thing, at)
-    return thing
-
-
-# Nothing made by these may come into a failing test's message: showing it would recurse too deep.
-def deep_things():
-    yield nested(50000, lambda thing, at: [thing])
-    yield nested(50000, lambda thing, at: (thing,))
-    yield nested(50000, lambda thing, at: [thing] if at % 2 else (thing,))
-    yield nested(50000, lambda thing, at: (thing,) if at % 2 else [thing])
-    yield nested(5000, lambda thing, at: [at, thing])
-    yield nested(5000, lambda thing, at: [thing, at])
+from tests.helpers import FAR, deep_things, nested, small_rows
 
 
 class TestIsRow(unittest.TestCase):
