@@ -49,6 +49,19 @@ FUNCTIONS = {
         "within_below": ["row", "number"],
         "within_at": ["row", "place"],
     },
+    "sumplace.products": {
+        "products_below": ["one", "other", "number"],
+        "product_at": ["one", "other", "place"],
+    },
+    "sumplace.several": {
+        "first_ways": ["rows", "many"],
+        "ways_to": ["rows", "number"],
+    },
+    "sumplace.likes": {
+        "like_sums": ["one", "other"],
+        "most_sum": ["one", "other"],
+        "nearest": ["one", "other", "number"],
+    },
 }
 
 
