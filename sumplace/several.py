@@ -20,7 +20,7 @@ def first_ways(rows, many):
 
 def ways_to(rows, number):
     """How many ways have a sum of at most the number; 500 where there are 500 or more."""
-    return len([total for total, _ in first_ways(rows, MOST) if total <= number])
+    return len([way for way in first_ways(rows, MOST) if way[0] <= number])
 
 
 def first_way(rows):

@@ -7,6 +7,8 @@ from sumplace.errors import NoCommand, NoNumber, NoPlace, NoSide, NoText, SumErr
 # How far a number that is asked for may lie off, either way.
 FAR = 10 ** 40
 
+REFUSALS = (NoPlace, NoSide, NoNumber, NoText, NoCommand)
+
 
 def small_rows(longest):
     """All rows of up to so many numbers from -2 to 2."""
@@ -49,16 +51,17 @@ def no_places(many):
     yield from no_wholes()
 
 
-def refuses(case, call, things):
-    """Let the case fail unless the call tells NoPlace, and none of the other refusals, of each of the things."""
+def refuses(case, call, things, refusal=NoPlace):
+    """Let the case fail unless the call tells the refusal, and none of the others, of each of the things."""
+    others = tuple(other for other in REFUSALS if other is not refusal)
     for at, thing in enumerate(things):
         # The thing itself may be too deep to be shown.
         with case.subTest(at=at, kind=type(thing).__name__):
-            with case.assertRaises(NoPlace) as caught:
+            with case.assertRaises(refusal) as caught:
                 call(thing)
             case.assertIsInstance(caught.exception, SumError)
             case.assertIsInstance(caught.exception, ValueError)
-            case.assertNotIsInstance(caught.exception, (NoSide, NoNumber, NoText, NoCommand))
+            case.assertNotIsInstance(caught.exception, others)
 
 
 def drawn_row(chance, many, spread):

@@ -8,6 +8,8 @@ CLASSES = {
     "sumplace.errors": ["SumError", "NoPlace", "NoSide", "NoNumber", "NoText", "NoCommand"],
     "sumplace.walks": ["Walk"],
     "sumplace.looks": ["Glass"],
+    "sumplace.live": ["Live"],
+    "sumplace.desk": ["Desk"],
 }
 
 METHODS = {
@@ -22,6 +24,19 @@ METHODS = {
         "many": [],
         "look": ["place"],
         "looks": [],
+    },
+    ("sumplace.live", "Live"): {
+        "__init__": ["one", "other"],
+        "put": ["side", "number"],
+        "take": ["side", "number"],
+        "undo": [],
+        "rows": [],
+        "below": ["number"],
+        "at": ["place"],
+    },
+    ("sumplace.desk", "Desk"): {
+        "__init__": [],
+        "say": ["words"],
     },
 }
 
@@ -61,6 +76,16 @@ FUNCTIONS = {
         "like_sums": ["one", "other"],
         "most_sum": ["one", "other"],
         "nearest": ["one", "other", "number"],
+    },
+    "sumplace.papers": {
+        "place_of": ["one", "other", "pair"],
+        "places_of": ["one", "other", "number"],
+        "paper_of": ["one", "other", "number"],
+        "by_paper": ["one", "other", "number", "thing"],
+    },
+    "sumplace.notes": {
+        "show_row": ["row"],
+        "read_row": ["text"],
     },
 }
 

@@ -40,7 +40,8 @@ class TestProducts(unittest.TestCase):
     def test_told_numbers(self):
         # The products: -6, -4, -2, 3, 6, 9 (of -2 and 3 with 1, 2, 3).
         one, other = [-2, 3], [1, 2, 3]
-        self.assertEqual([products_below(one, other, n) for n in (-6, -5, -3, 0, 3, 4, 9, 10)], [0, 1, 2, 3, 3, 4, 5, 6])
+        told = [products_below(one, other, n) for n in (-6, -5, -3, 0, 3, 4, 9, 10)]
+        self.assertEqual(told, [0, 1, 2, 3, 3, 4, 5, 6])
         told = [product_at(one, other, place) for place in range(6)]
         self.assertEqual(told, [(-6, 0, 2), (-4, 0, 1), (-2, 0, 0), (3, 1, 0), (6, 1, 1), (9, 1, 2)])
 

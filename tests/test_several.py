@@ -52,7 +52,8 @@ class TestFew(Case):
         rows = [[1, 2], [10, 11], [0, 100]]
         told = [(11, [0, 0, 0]), (12, [0, 1, 0]), (12, [1, 0, 0]), (13, [1, 1, 0]), (111, [0, 0, 1])]
         self.assertEqual(first_ways(rows, 5), told)
-        self.assertEqual([ways_to(rows, n) for n in (10, 11, 12, 13, 110, 111, 112, 113, FAR)], [0, 1, 3, 4, 4, 5, 7, 8, 8])
+        told = [ways_to(rows, n) for n in (10, 11, 12, 13, 110, 111, 112, 113, FAR)]
+        self.assertEqual(told, [0, 1, 3, 4, 4, 5, 7, 8, 8])
 
     def test_none_asked_for(self):
         self.assertEqual(first_ways([[1, 2], [3]], 0), [])
@@ -119,7 +120,8 @@ class TestMany(Case):
     def test_counted_to_five_hundred_and_no_further(self):
         # Of two rows of 0 to 39, n + 1 ways have the sum n up to 39.
         rows = [list(range(40)), list(range(40))]
-        self.assertEqual([ways_to(rows, n) for n in (-1, 0, 1, 29, 30, 31, 78, FAR)], [0, 1, 3, 465, 496, 500, 500, 500])
+        told = [ways_to(rows, n) for n in (-1, 0, 1, 29, 30, 31, 78, FAR)]
+        self.assertEqual(told, [0, 1, 3, 465, 496, 500, 500, 500])
         self.assertEqual(ways_to([[0] * 25, [0] * 20], 0), 500)
         self.assertEqual(ways_to([[0] * 26, [0] * 20], 0), 500)
         self.assertEqual(ways_to([[0] * 499], 0), 499)
@@ -147,7 +149,8 @@ class TestMany(Case):
             self.check_kinds(told, rows)
             self.assertEqual(len(told), 500)
             self.assertEqual(told, sorted(told))
-            self.assertEqual([sum(row[place] for row, place in zip(rows, way[1])) for way in told], [way[0] for way in told])
+            for total, places in told:
+                self.assertEqual(sum(row[place] for row, place in zip(rows, places)), total)
             self.assertEqual(len({tuple(way[1]) for way in told}), 500)
             first = sum(1 for way in told if way[0] == told[0][0])
             self.assertEqual(counts, [0, first, 500, 500])
