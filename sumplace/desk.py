@@ -25,8 +25,8 @@ class Desk:
             raise NoCommand("no text")
         live = self._live
         match words.split(" "):
-            case ["row", side, *rest]:
-                # Where nothing stands behind the side, this is a text of no signs: of no row.
+            # Without a second blank, behind which a row would be told, this is no command.
+            case ["row", side, *rest] if rest:
                 self._new_row(read_side(side), " ".join(rest))
                 return "ok"
             case ["put", side, number]:

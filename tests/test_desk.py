@@ -176,12 +176,23 @@ class TestRow(Case):
         texts = ["", " ", "2 1", "01", "-0", "+1", " 1", "1 ", "1  2", "a", "1 a", "1\n", "\n", "1\n2"]
         texts += ["--", "- -", "- 1", "1" * 17, "-" + "1" * 17, THIRTY, "1.5", "1,2", "[]", "ok", "row 0 1"]
         for side in (0, 1):
+            # The first of them is of none there, behind the second blank.
             refuses(self, desk.say, [f"row {side} {text}" for text in texts], NoText)
-            # None there.
-            refuses(self, desk.say, [f"row {side}"], NoText)
         # Nothing was changed, and what was done is not forgotten.
         self.says(desk, "show 0", "1 2", "show 1", "10 11", "undo", "ok", "undo", "none")
         self.check(desk, [1, 2], [10])
+
+    def test_no_second_blank(self):
+        for side in (0, 1):
+            refuses(self, Desk().say, [f"row {side}"], NoCommand)
+            desk = desk_of("1 2", "10")
+            self.says(desk, f"put {side} 11", "ok")
+            refuses(self, desk.say, [f"row {side}", f"row {side}-", f"row {side}\n", f"row {side}\n1"], NoCommand)
+            refuses(self, desk.say, [f"row {side} "], NoText)
+            # Nothing was changed, and what was done is not forgotten.
+            self.check(desk, *(([1, 2, 11], [10]) if side == 0 else ([1, 2], [10, 11])))
+            self.says(desk, "undo", "ok", "undo", "none")
+            self.check(desk, [1, 2], [10])
 
     def test_the_side_is_told_ahead_of_the_row(self):
         desk = desk_of("1 2", "10")
@@ -280,7 +291,8 @@ class TestRefused(Case):
             ("take 0 5", NoNumber),
             ("at 9", NoPlace),
             ("row 0 2 1", NoText),
-            ("row 1", NoText),
+            ("row 1 ", NoText),
+            ("row 1", NoCommand),
             ("undo it", NoCommand),
         ):
             desk = desk_of("1 2", "10 11 20")
